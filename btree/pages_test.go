@@ -275,6 +275,13 @@ func TestJoinedInnerNodes(t *testing.T) {
 	if got := listed(t, x); !got.same(want) {
 		t.Errorf("it tells %v, want %v", got, want)
 	}
+	// Likewise where each of them has one leaf.
+	x = opened(t, bound(t, inner+ref(1)+ref(2), inner+ref(3), inner+ref(4), leaf+short("a", "1"), leaf+short("b", "2")))
+	put(t, x, "c", "3")
+	if deep, pages := x.Shape(); deep != 1 || pages != 1 {
+		t.Errorf("%d deep, %d pages", deep, pages)
+	}
+	tells(t, x, of("a", "1", "b", "2", "c", "3"))
 }
 
 // P10.2: the only key of the only kid of a node beside which there is a full one.
