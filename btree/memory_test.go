@@ -2,7 +2,9 @@ package btree_test
 
 import (
 	"fmt"
+	"strconv"
 	"sync"
+	"sync/atomic"
 	"testing"
 
 	"pantry/api"
@@ -200,17 +202,21 @@ func TestCopies(t *testing.T) {
 	}
 }
 
-// W9: others ask, Sync, Fuse and Crash the FS meanwhile.
-func TestOthersMeanwhile(t *testing.T) {
-	f, _ := made(t, 1<<24, of("stays", "1"))
+// W9: others Crash the FS meanwhile, and ask, Sync and Fuse it: nothing panics, whatever is answered.
+func TestCrashedMeanwhile(t *testing.T) {
+	f, _ := made(t, 1<<24, of("first", "1"))
 	var all sync.WaitGroup
+	var ended atomic.Bool
 	often := rounds(600)
 	all.Go(func() {
-		for i := range often {
+		defer ended.Store(true)
+		// A burnt fuse lets none be opened, till the next Crash.
+		for tries, i := 0, 0; i < often && tries < often*1000; tries++ {
 			x, e := btree.Open(f, "b")
 			if e != api.OK {
 				continue
 			}
+			i++
 			for n := range 20 {
 				x.Put(key(n*i%50, 40), []byte(sized(i)))
 				x.Delete(key(n*n%50, 40))
@@ -223,9 +229,9 @@ func TestOthersMeanwhile(t *testing.T) {
 		}
 	})
 	all.Go(func() {
-		for i := range often * 10 {
+		for i := 0; !ended.Load(); i++ {
 			f.Sync()
-			f.Fuse(i%9 - 1)
+			f.Fuse(i%40 - 1)
 			f.Crash(i % 4)
 			f.Names("")
 		}
@@ -239,9 +245,83 @@ func TestOthersMeanwhile(t *testing.T) {
 	})
 	all.Wait()
 	f.Crash(0)
-	x := opened(t, f)
-	has(t, x, "stays", "1")
-	put(t, x, "x", "2")
-	ok(t, x.Commit())
-	lasts(t, f, told(t, x))
+	if x, e := btree.Open(f, "b"); e == api.OK {
+		x.Put("x", []byte("2"))
+		x.Commit()
+		for range x.Range("") {
+		}
+		x.Shape()
+	}
+}
+
+// numbered are the keys of the Commit n: two that are always there, and one of its own.
+func numbered(n int64) list {
+	return of("a", fmt.Sprint(n), "b", fmt.Sprint(n, sized(int(n*37%900))), key(int(n), 40), "own")
+}
+
+// commits changes a tree from one Commit's keys to those of the next.
+func commits(t *testing.T, x *btree.Tree, n int64) api.Errno {
+	t.Helper()
+	if n > 0 {
+		ok(t, x.Delete(key(int(n-1), 40)))
+	}
+	puts(t, x, numbered(n))
+	return x.Commit()
+}
+
+// between asks for the keys of a Commit, the least and the most it may have been.
+func between(t *testing.T, f *fs.FS, least, most int64) int64 {
+	t.Helper()
+	x, e := btree.Open(f, "b")
+	if e != api.OK {
+		t.Errorf("Open: %v", e)
+		return least
+	}
+	b, _ := x.Get("a")
+	n, err := strconv.ParseInt(string(b), 10, 64)
+	if err != nil || n < least || n > most || !told(t, x).same(numbered(n)) {
+		t.Errorf("%v, not %d to %d", told(t, x), least, most)
+	}
+	return n
+}
+
+// W9, P10.6: others ask, Sync and Fuse the FS meanwhile, and Crash copies of it, but not the FS itself: there is what
+// the last Commit left that answered OK, or the one that erred.
+func TestOthersMeanwhile(t *testing.T) {
+	f := disk(t, 1<<24)
+	ok(t, commits(t, opened(t, f), 0))
+	var tried, done atomic.Int64
+	for i := range rounds(200) {
+		var all sync.WaitGroup
+		all.Go(func() {
+			for n := range 10 {
+				f.Sync()
+				f.Names("")
+				least := done.Load()
+				c := f.Copy()
+				most := tried.Load()
+				c.Crash(n % 4)
+				between(t, c, least, most)
+			}
+			f.Fuse(i % 9)
+		})
+		x, e := btree.Open(f, "b")
+		for range 60 {
+			if e != api.OK {
+				break
+			}
+			n := tried.Add(1)
+			if e = commits(t, x, n); e == api.OK {
+				done.Store(n)
+			}
+		}
+		all.Wait()
+		if e != api.OK {
+			answers(t, e, api.ErrDead)
+		}
+		f.Crash(i % 4)
+		n := between(t, f, done.Load(), tried.Load())
+		tried.Store(n)
+		done.Store(n)
+	}
 }

@@ -5,6 +5,7 @@ import (
 	"reflect"
 	"slices"
 	"sync"
+	"sync/atomic"
 	"testing"
 
 	"pantry/api"
@@ -215,23 +216,27 @@ func TestCopies(t *testing.T) {
 	}
 }
 
-// W9: others ask, Sync, Fuse and Crash the FS meanwhile.
-func TestOthersMeanwhile(t *testing.T) {
-	kept := named("stays")
-	f, _ := made(t, one(kept))
+// W9: others Crash the FS meanwhile, and ask, Sync and Fuse it: nothing panics, whatever is answered.
+func TestCrashedMeanwhile(t *testing.T) {
+	first := named("first")
+	f, _ := made(t, one(first))
 	var all sync.WaitGroup
+	var ended atomic.Bool
 	often := rounds(300)
 	all.Go(func() {
-		for i := range often {
+		defer ended.Store(true)
+		// A burnt fuse lets none be opened, till the next Crash.
+		for tries, i := 0, 0; i < often && tries < often*1000; tries++ {
 			d, e := db.Open(f, "db")
 			if e != api.OK {
 				continue
 			}
+			i++
 			for n := range 10 {
 				p := named(fmt.Sprint("p-", i*n%30))
-				d.Register([]api.Info{{Path: p, Refs: []api.Path{kept}, Sigs: sigs(i, n, 20)}})
+				d.Register([]api.Info{{Path: p, Refs: []api.Path{first}, Sigs: sigs(i, n, 20)}})
 				d.Remove(named(fmt.Sprint("p-", n*n%30)))
-				d.Realise(api.Realised{Drv: p, Out: "out", Path: kept})
+				d.Realise(api.Realised{Drv: p, Out: "out", Path: first})
 				d.Commit()
 			}
 			d.Order(d.All())
@@ -239,9 +244,9 @@ func TestOthersMeanwhile(t *testing.T) {
 		}
 	})
 	all.Go(func() {
-		for i := range often * 10 {
+		for i := 0; !ended.Load(); i++ {
 			f.Sync()
-			f.Fuse(i%9 - 1)
+			f.Fuse(i%40 - 1)
 			f.Crash(i % 4)
 			f.Names("")
 		}
@@ -255,11 +260,90 @@ func TestOthersMeanwhile(t *testing.T) {
 	})
 	all.Wait()
 	f.Crash(0)
-	d := opened(t, f)
-	has(t, d, one(kept))
-	ok(t, d.Register([]api.Info{one(named("x"), kept)}))
-	ok(t, d.Commit())
-	lasts(t, f, told(t, d))
+	if d, e := db.Open(f, "db"); e == api.OK {
+		exercised(d, []api.Path{first})
+	}
+}
+
+// numbered is what the Commit n leaves: a path that is always there, and one of its own that refers to it.
+func numbered(n int64) []api.Info {
+	stays := named("stays")
+	return []api.Info{one(stays), {Path: named(fmt.Sprint("p-", n)), Size: int(n), Refs: []api.Path{stays}, Sigs: sigs(int(n), 2, 20)}}
+}
+
+// commits changes a DB from what one Commit left to what the next one does.
+func commits(t *testing.T, d *db.DB, n int64) api.Errno {
+	t.Helper()
+	ok(t, d.Register(numbered(n)))
+	if n > 0 {
+		ok(t, d.Remove(numbered(n - 1)[1].Path))
+	}
+	ok(t, d.Realise(api.Realised{Drv: numbered(n)[1].Path, Out: "out", Path: named("stays")}))
+	return d.Commit()
+}
+
+// between asks for what a Commit left, the least and the most it may have been.
+func between(t *testing.T, f *fs.FS, least, most int64) int64 {
+	t.Helper()
+	d, e := db.Open(f, "db")
+	if e != api.OK {
+		t.Errorf("Open: %v", e)
+		return least
+	}
+	var n int64
+	for _, p := range d.All() {
+		x, _ := d.Get(p)
+		n = max(n, int64(x.Size))
+	}
+	stays, own := numbered(n)[0], numbered(n)[1]
+	x, e := d.Get(stays.Path)
+	y, e2 := d.Get(own.Path)
+	p, e3 := d.Realised(own.Path, "out")
+	if n < least || n > most || !same(x, stays) || !same(y, own) || p != stays.Path || e != api.OK || e2 != api.OK || e3 != api.OK || len(d.All()) != 2 {
+		t.Errorf("%v, not %d to %d", d.All(), least, most)
+	}
+	return n
+}
+
+// W9, P11.7: others ask, Sync and Fuse the FS meanwhile, and Crash copies of it, but not the FS itself: there is what
+// the last Commit left that answered OK, or the one that erred.
+func TestOthersMeanwhile(t *testing.T) {
+	f := disk(t, 1<<24)
+	ok(t, commits(t, opened(t, f), 0))
+	var tried, done atomic.Int64
+	for i := range rounds(100) {
+		var all sync.WaitGroup
+		all.Go(func() {
+			for n := range 10 {
+				f.Sync()
+				f.Names("")
+				least := done.Load()
+				c := f.Copy()
+				most := tried.Load()
+				c.Crash(n % 4)
+				between(t, c, least, most)
+			}
+			f.Fuse(i % 9)
+		})
+		d, e := db.Open(f, "db")
+		for range 60 {
+			if e != api.OK {
+				break
+			}
+			n := tried.Add(1)
+			if e = commits(t, d, n); e == api.OK {
+				done.Store(n)
+			}
+		}
+		all.Wait()
+		if e != api.OK {
+			answers(t, e, api.ErrDead)
+		}
+		f.Crash(i % 4)
+		n := between(t, f, done.Load(), tried.Load())
+		tried.Store(n)
+		done.Store(n)
+	}
 }
 
 // exercised calls all that there is, whatever it answers.

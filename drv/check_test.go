@@ -73,6 +73,33 @@ func TestOrderOfFaults(t *testing.T) {
 	}
 }
 
+// P14.1: one output more than there may be, whatever else it is.
+func TestManyOutputs(t *testing.T) {
+	d := goods()["many"]
+	d.Outputs = append(d.Outputs, api.Output{Name: "z"})
+	refuses(t, d, api.ErrArg)
+	isNone(t, textOf(d))
+	d.Outputs = make([]api.Output, api.MaxOuts+1)
+	refuses(t, d, api.ErrArg)
+	d.Outputs = make([]api.Output, api.MaxOuts)
+	refuses(t, d, api.ErrName)
+}
+
+// P14.1: an input's outs are asked one by one, so the first that is wrong tells its error.
+func TestOuts(t *testing.T) {
+	for _, x := range []struct {
+		outs []string
+		e    api.Errno
+	}{
+		{[]string{"b", "a", "/"}, api.ErrForm}, {[]string{"b", "/", "a"}, api.ErrName}, {[]string{"/", "/"}, api.ErrName},
+		{[]string{"a", "a"}, api.ErrForm}, {[]string{"a", "b", "c", "b"}, api.ErrForm}, {[]string{"a", "b", "c", "d"}, api.OK},
+	} {
+		d := rich()
+		d.Inputs[0].Outs = x.outs
+		answers(t, drv.Check(d), x.e)
+	}
+}
+
 // P14.1: Fixed beside another one, ahead of it or behind it, or called otherwise than out.
 func TestFixed(t *testing.T) {
 	for _, outs := range [][]api.Output{

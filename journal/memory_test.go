@@ -2,8 +2,10 @@ package journal_test
 
 import (
 	"slices"
+	"strconv"
 	"strings"
 	"sync"
+	"sync/atomic"
 	"testing"
 
 	"pantry/api"
@@ -153,18 +155,22 @@ func TestJournalOfItsOwn(t *testing.T) {
 	dead(t, &k, nil)
 }
 
-// W9: others ask, Sync, Fuse and Crash the FS meanwhile.
-func TestOthersMeanwhile(t *testing.T) {
+// W9: others Crash the FS meanwhile, and ask, Sync and Fuse it: nothing panics, whatever is answered.
+func TestCrashedMeanwhile(t *testing.T) {
 	f := disk(t, 1<<22)
-	commit(t, opened(t, f), "stays")
+	commit(t, opened(t, f), "first")
 	var all sync.WaitGroup
+	var ended atomic.Bool
 	often := rounds(3000)
 	all.Go(func() {
-		for i := range often {
+		defer ended.Store(true)
+		// A burnt fuse lets none be opened, till the next Crash.
+		for tries, i := 0, 0; i < often && tries < often*1000; tries++ {
 			j, e := journal.Open(f, "j")
 			if e != api.OK {
 				continue
 			}
+			i++
 			for range 5 {
 				j.Add([]byte(sized(i % 100)))
 				j.Commit()
@@ -177,9 +183,9 @@ func TestOthersMeanwhile(t *testing.T) {
 		}
 	})
 	all.Go(func() {
-		for i := range often {
+		for i := 0; !ended.Load(); i++ {
 			f.Sync()
-			f.Fuse(i%9 - 1)
+			f.Fuse(i%40 - 1)
 			f.Crash(i % 4)
 			f.Names("")
 		}
@@ -193,10 +199,66 @@ func TestOthersMeanwhile(t *testing.T) {
 	})
 	all.Wait()
 	f.Crash(0)
-	j := opened(t, f)
-	ok(t, j.Reset())
-	commit(t, j, "x")
-	lasts(t, f, of("x"))
+	if j, e := journal.Open(f, "j"); e == api.OK {
+		j.Add([]byte("x"))
+		j.Commit()
+		j.Groups()
+		j.Reset()
+	}
+}
+
+// between asks for the groups 1, 2 and so on, so many of them as were committed at least and at most.
+func between(t *testing.T, f *fs.FS, least, most int64) {
+	t.Helper()
+	j, e := journal.Open(f, "j")
+	if e != api.OK {
+		t.Errorf("Open: %v", e)
+		return
+	}
+	var want groups
+	for range j.Groups() {
+		want = want.with([]string{strconv.Itoa(len(want) + 1)})
+	}
+	if n := int64(len(want)); n < least || n > most || !told(j).same(want) {
+		t.Errorf("%v, not %d to %d groups", told(j), least, most)
+	}
+}
+
+// W9, P8.5: others ask, Sync and Fuse the FS meanwhile, and Crash copies of it, but not the FS itself: what a Commit
+// answered OK is there, and of the one that erred all or nothing.
+func TestOthersMeanwhile(t *testing.T) {
+	f := disk(t, 1<<22)
+	for i := range rounds(300) {
+		var tried, done atomic.Int64
+		var all sync.WaitGroup
+		all.Go(func() {
+			for n := range 10 {
+				f.Sync()
+				f.Names("")
+				least := done.Load()
+				c := f.Copy()
+				most := tried.Load()
+				c.Crash(n % 4)
+				between(t, c, least, most)
+			}
+			f.Fuse(i % 9)
+		})
+		j, e := journal.Open(f, "j")
+		for n := 1; e == api.OK && n <= 60; n++ {
+			tried.Store(int64(n))
+			ok(t, j.Add([]byte(strconv.Itoa(n))))
+			if e = j.Commit(); e == api.OK {
+				done.Store(int64(n))
+			}
+		}
+		all.Wait()
+		if e != api.OK {
+			answers(t, e, api.ErrDead)
+		}
+		f.Crash(i % 4)
+		between(t, f, done.Load(), tried.Load())
+		ok(t, opened(t, f).Reset())
+	}
 }
 
 // W9: Syncs of others change nothing that a journal answers.

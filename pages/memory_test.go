@@ -1,8 +1,11 @@
 package pages_test
 
 import (
+	"slices"
+	"strconv"
 	"strings"
 	"sync"
+	"sync/atomic"
 	"testing"
 
 	"pantry/api"
@@ -142,17 +145,21 @@ func TestPagerOfItsOwn(t *testing.T) {
 	}
 }
 
-// W9: others ask, Sync, Fuse and Crash the FS meanwhile.
-func TestOthersMeanwhile(t *testing.T) {
-	f, _ := filled(t, 1<<24, "stays")
+// W9: others Crash the FS meanwhile, and ask, Sync and Fuse it: nothing panics, whatever is answered.
+func TestCrashedMeanwhile(t *testing.T) {
+	f, _ := filled(t, 1<<24, "first")
 	var all sync.WaitGroup
-	often := rounds(2000)
+	var ended atomic.Bool
+	often := rounds(800)
 	all.Go(func() {
-		for i := range often {
+		defer ended.Store(true)
+		// A burnt fuse lets none be opened, till the next Crash.
+		for tries, i := 0, 0; i < often && tries < often*1000; tries++ {
 			p, e := pages.Open(f, "p")
 			if e != api.OK {
 				continue
 			}
+			i++
 			for range 5 {
 				p.New()
 				p.Put(i%10, []byte(sized(i%500)))
@@ -174,9 +181,9 @@ func TestOthersMeanwhile(t *testing.T) {
 		}
 	})
 	all.Go(func() {
-		for i := range often {
+		for i := 0; !ended.Load(); i++ {
 			f.Sync()
-			f.Fuse(i%9 - 1)
+			f.Fuse(i%40 - 1)
 			f.Crash(i % 4)
 			f.Names("")
 		}
@@ -190,10 +197,85 @@ func TestOthersMeanwhile(t *testing.T) {
 	})
 	all.Wait()
 	f.Crash(0)
-	p := opened(t, f)
-	fill(t, p, "x")
-	ok(t, p.Commit())
-	lasts(t, f, told(t, p))
+	if p, e := pages.Open(f, "p"); e == api.OK {
+		p.New()
+		p.Put(0, []byte("x"))
+		p.Commit()
+		p.Get(0)
+		p.Count()
+	}
+}
+
+// between asks for two pages that a Commit changed together, the least and the most it may have been.
+func between(t *testing.T, f *fs.FS, least, most int64) {
+	t.Helper()
+	p, e := pages.Open(f, "p")
+	if e != api.OK {
+		t.Errorf("Open: %v", e)
+		return
+	}
+	a, _ := p.Get(0)
+	b, _ := p.Get(70)
+	n, err := strconv.ParseInt(string(a), 10, 64)
+	if err != nil || n < least || n > most || string(b) != string(a) {
+		t.Errorf("%q and %q, not %d to %d", a, b, least, most)
+	}
+}
+
+// W9, P9.5: others ask, Sync and Fuse the FS meanwhile, and Crash copies of it, but not the FS itself: what a Commit
+// answered OK is there, and of the one that erred all or nothing.
+func TestOthersMeanwhile(t *testing.T) {
+	// The two pages stand in two files.
+	f, _ := filled(t, 1<<24, slices.Repeat([]string{"0"}, 71)...)
+	var tried, done atomic.Int64
+	for i := range rounds(300) {
+		var all sync.WaitGroup
+		all.Go(func() {
+			for n := range 10 {
+				f.Sync()
+				f.Names("")
+				least := done.Load()
+				c := f.Copy()
+				most := tried.Load()
+				c.Crash(n % 4)
+				between(t, c, least, most)
+			}
+			f.Fuse(i % 9)
+		})
+		p, e := pages.Open(f, "p")
+		for range 60 {
+			if e != api.OK {
+				break
+			}
+			n := tried.Add(1)
+			text := strconv.AppendInt(nil, n, 10)
+			ok(t, p.Put(0, text))
+			ok(t, p.Put(70, text))
+			if e = p.Commit(); e == api.OK {
+				done.Store(n)
+			}
+		}
+		all.Wait()
+		if e != api.OK {
+			answers(t, e, api.ErrDead)
+		}
+		f.Crash(i % 4)
+		between(t, f, done.Load(), tried.Load())
+		settled(t, f, &tried, &done)
+	}
+}
+
+// settled tells which Commit of those that were tried is there.
+func settled(t *testing.T, f *fs.FS, tried, done *atomic.Int64) {
+	t.Helper()
+	b, e := opened(t, f).Get(0)
+	ok(t, e)
+	n, err := strconv.ParseInt(string(b), 10, 64)
+	if err != nil {
+		t.Fatalf("%q is no number", b)
+	}
+	tried.Store(n)
+	done.Store(n)
 }
 
 // W9: Syncs of others change nothing that a pager answers.

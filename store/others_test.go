@@ -3,8 +3,10 @@ package store_test
 import (
 	"fmt"
 	"slices"
+	"strconv"
 	"strings"
 	"sync"
+	"sync/atomic"
 	"testing"
 
 	"pantry/api"
@@ -94,17 +96,21 @@ func TestSkeletonsOfOthers(t *testing.T) {
 	}
 }
 
-// W9: others ask, Sync, Fuse and Crash the FS meanwhile.
-func TestOthersMeanwhile(t *testing.T) {
+// W9: others Crash the FS meanwhile, and ask, Sync and Fuse it: nothing panics, whatever is answered.
+func TestCrashedMeanwhile(t *testing.T) {
 	f, _, _, _, _ := base(t, room)
 	var all sync.WaitGroup
+	var ended atomic.Bool
 	often := rounds(150)
 	all.Go(func() {
-		for i := range often {
+		defer ended.Store(true)
+		// A burnt fuse lets none be opened, till the next Crash.
+		for tries, i := 0, 0; i < often && tries < often*1000; tries++ {
 			s, e := store.Open(f)
 			if e != api.OK {
 				continue
 			}
+			i++
 			for n := range 4 {
 				s.AddTree(two(fmt.Sprint(n), "1"), fmt.Sprint("x", i%3), nil)
 			}
@@ -112,7 +118,7 @@ func TestOthersMeanwhile(t *testing.T) {
 		}
 	})
 	all.Go(func() {
-		for i := range often * 20 {
+		for i := 0; !ended.Load(); i++ {
 			f.Sync()
 			f.Fuse(i%40 - 1)
 			if i%5 == 0 {
@@ -124,7 +130,64 @@ func TestOthersMeanwhile(t *testing.T) {
 	})
 	all.Wait()
 	f.Crash(0)
-	opened(t, f)
+	if s, e := store.Open(f); e == api.OK {
+		exercised(s)
+	}
+}
+
+// between asks for the texts 1, 2 and so on, so many of them as were added at least and at most.
+func between(t *testing.T, f *fs.FS, least, most int64) {
+	t.Helper()
+	s, e := store.Open(f)
+	if e != api.OK {
+		t.Errorf("Open: %v", e)
+		return
+	}
+	all := s.DB().All()
+	if n := int64(len(all)); n < least || n > most {
+		t.Errorf("%d paths, not %d to %d", n, least, most)
+	}
+	for i := range all {
+		p := textOf(t, strconv.Itoa(i+1), "x")
+		if e := s.Verify(p); e != api.OK {
+			t.Errorf("Verify(%q): %v", p, e)
+		}
+	}
+}
+
+// W9, P13.9: others ask, Sync and Fuse the FS meanwhile, and Crash copies of it, but not the FS itself: there is what
+// was answered OK, and of what erred all or nothing.
+func TestOthersMeanwhile(t *testing.T) {
+	for i := range rounds(60) {
+		f := disk(t, room)
+		var tried, done atomic.Int64
+		var all sync.WaitGroup
+		all.Go(func() {
+			for n := range 10 {
+				f.Sync()
+				f.Names("")
+				least := done.Load()
+				c := f.Copy()
+				most := tried.Load()
+				c.Crash(n % 4)
+				between(t, c, least, most)
+			}
+			f.Fuse(i % 9)
+		})
+		s, e := store.Open(f)
+		for n := 1; e == api.OK && n <= 60; n++ {
+			tried.Store(int64(n))
+			if _, e = s.AddText([]byte(strconv.Itoa(n)), "x", nil); e == api.OK {
+				done.Store(int64(n))
+			}
+		}
+		all.Wait()
+		if e != api.OK {
+			answers(t, e, api.ErrDead)
+		}
+		f.Crash(i % 4)
+		between(t, f, done.Load(), tried.Load())
+	}
 }
 
 // P13.10: two stores of copies of a FS share nothing.
