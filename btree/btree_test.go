@@ -490,12 +490,11 @@ func TestDead(t *testing.T) {
 		dead(t, x, now)
 		f.Fuse(-1)
 		dead(t, x, now)
+		x.Drop()
+		dead(t, x, of("a", "1", "b", sized(700)))
+		x.Drop()
+		dead(t, x, of("a", "1", "b", sized(700)))
 		f.Crash(0)
-		dead(t, x, now)
-		x.Drop()
-		dead(t, x, of("a", "1", "b", sized(700)))
-		x.Drop()
-		dead(t, x, of("a", "1", "b", sized(700)))
 		lasts(t, f, of("a", "1", "b", sized(700)))
 	}
 }

@@ -376,7 +376,8 @@ func TestManyGroups(t *testing.T) {
 	add(t, j, "x")
 	answers(t, j.Commit(), api.ErrFull)
 	f.Crash(0)
-	all := opened(t, f).Groups()
+	j = opened(t, f)
+	all := j.Groups()
 	if len(all) != most {
 		t.Fatal(len(all))
 	}
@@ -645,7 +646,6 @@ func TestDead(t *testing.T) {
 			f.Fuse(-1)
 			dead(t, j, of("a"))
 			f.Crash(0)
-			dead(t, j, of("a"))
 			lasts(t, f, of("a"))
 		}
 	}

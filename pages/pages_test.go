@@ -553,10 +553,9 @@ func TestDead(t *testing.T) {
 		dead(t, p, now, 2)
 		f.Fuse(-1)
 		dead(t, p, now, 2)
-		f.Crash(0)
-		dead(t, p, now, 2)
 		p.Drop()
 		dead(t, p, of("a", "b"), 0)
+		f.Crash(0)
 		lasts(t, f, of("a", "b"))
 	}
 }

@@ -265,7 +265,8 @@ func TestAddText(t *testing.T) {
 	}
 	holds(t, s, want)
 	f.Crash(0)
-	holds(t, opened(t, f), want)
+	s = opened(t, f)
+	holds(t, s, want)
 	for _, name := range []string{"a", ""} {
 		stays(t, s, func() {
 			p, e := s.AddText(make([]byte, api.MaxFile+1), name, []api.Path{"no"})
